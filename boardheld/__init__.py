@@ -1,0 +1,1 @@
+"""Boardheld: a board held from outside."""

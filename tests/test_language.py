@@ -6,6 +6,8 @@ import os
 import re
 import unittest
 
+from boardheld.board import Board
+
 PACKAGE = os.path.join(os.path.dirname(os.path.dirname(os.path.abspath(__file__))), "boardheld")
 
 LIBRARY = {
@@ -37,6 +39,14 @@ DUNDERS = set("""__init__ __eq__ __repr__ __str__ __len__ __enter__ __exit__ __c
     __contains__ __getitem__ __setitem__ __lt__ __le__ __gt__ __ge__ __slots__ __class__ __name__""".split())
 DECORATORS = {"property", "staticmethod", "classmethod"}
 FUNCTIONS = (ast.FunctionDef, ast.AsyncFunctionDef)
+AT_ONCE = ("zip", "enumerate", "reversed", "range", ".items", ".keys", ".values", "map")
+TAKERS = ("list", "tuple", "dict", "sorted", "sum", "any", "all", "enumerate", "zip", "min", "max", "reversed")
+UNCAUGHT = ("Exception", "TypeError", "ArithmeticError", "OverflowError", "RuntimeError", "NotImplementedError",
+            "AttributeError")
+CHANGERS = [f".{name}" for name in ("append", "clear", "extend", "insert", "pop", "remove", "reverse", "setdefault",
+                                    "update", "sort", "add", "discard")]
+BARRED_ATTRIBUTES = set("""items keys values pop update append clear extend insert remove reverse setdefault sort
+    args encode decode hex fromhex format format_map mro conjugate real imag numerator denominator""".split())
 
 INTERFACE = {
     "errors": {
@@ -46,6 +56,23 @@ INTERFACE = {
     },
     "listing": {"row_of": ("word",), "listed": ("image",), "typed": ("text",)},
     "memory": {"Memory": None, "Memory.word_at": ("address",)},
+    "board": {"Board": ("image", "line"), "Board.turn": (), "Board.twin": ()},
+    "probe": {
+        "Probe": ("image", "line"), "Probe.look": ("address", "many"), "Probe.register_of": ("name",),
+        "Probe.stop_told": (), "Probe.out": (), "Probe.turns": (), "Probe.poke": ("address", "word"),
+        "Probe.set_register": ("name", "thing"), "Probe.go": ("most", "peeks"), "Probe.plain": (),
+        "Probe.mark": ("address", "hard"), "Probe.unmark": ("address",), "Probe.clear_marks": (),
+        "Probe.marks": (), "Probe.wear": (), "Probe.watch": ("number", "low", "high", "kind"),
+        "Probe.unwatch": ("number",), "Probe.watches": (),
+    },
+    "steps": {
+        "step_in": ("probe",), "step_over": ("probe", "most"), "step_out": ("probe", "most"),
+        "frames_of": ("probe",), "strays_of": ("probe",), "forget_frames": ("probe",),
+    },
+    "traces": {
+        "trace": ("probe",), "faded": ("probe",), "clear_trace": ("probe",), "profile": ("probe",),
+        "spent": ("probe",), "idle": ("probe",), "peeked": ("probe",), "clear_counts": ("probe",),
+    },
 }
 
 
@@ -229,6 +256,110 @@ def method_faults(tree, own):
     return faults
 
 
+def parents_of(tree):
+    """What each node of a file stands in."""
+    return {id(part): node for node in ast.walk(tree) for part in ast.iter_child_nodes(node)}
+
+
+def called_name(node):
+    """The name of what a call calls, a method's behind a dot; None for what is no call."""
+    if not isinstance(node, ast.Call):
+        return None
+    if isinstance(node.func, ast.Attribute):
+        return "." + node.func.attr
+    return getattr(node.func, "id", "")
+
+
+def kept_faults(tree):
+    """L23, L24: what is iterated over at once, and sets; stored sets are not looked for."""
+    faults = []
+    parents = parents_of(tree)
+    for node in ast.walk(tree):
+        over = parents.get(id(node))
+        name = called_name(node)
+        looped = isinstance(over, (ast.For, ast.comprehension)) and over.iter is node
+        if name in AT_ONCE and not looped and called_name(over) not in TAKERS:
+            if name != "range" or not isinstance(over, ast.Compare):
+                faults.append((name, node.lineno))
+        if isinstance(node, (ast.Set, ast.SetComp)) or name in ("set", "frozenset"):
+            if called_name(over) not in ("sorted", "len") and not isinstance(over, ast.Compare):
+                faults.append(("set", node.lineno))
+            if looped:
+                faults.append(("set", node.lineno))
+    return faults
+
+
+def form_faults(tree):
+    """L6, L7, L15, L19, L20, L21: forms of single statements and expressions."""
+    faults = []
+    for node in ast.walk(tree):
+        line = getattr(node, "lineno", 0)
+        if isinstance(node, ast.Compare):
+            for sign, part in zip(node.ops, node.comparators):
+                plain = isinstance(part, ast.Constant) and part.value in (None, True, False)
+                if isinstance(sign, (ast.Is, ast.IsNot)) and not plain:
+                    faults.append(("is", line))
+        if isinstance(node, ast.Raise) and node.exc is not None:
+            if not isinstance(node.exc, ast.Call) or not called_name(node.exc)[:1].isupper():
+                faults.append(("raise", line))
+        if isinstance(node, ast.ExceptHandler) and getattr(node.type, "id", "") in UNCAUGHT:
+            faults.append(("except", line))
+        if isinstance(node, ast.AnnAssign) or isinstance(node, FUNCTIONS) and node.returns is not None:
+            faults.append(("annotation", line))
+        if isinstance(node, ast.GeneratorExp):
+            faults.append(("generator", line))
+    for node in tree.body:
+        inside = [part for part in ast.walk(node) if isinstance(part, (ast.List, ast.Dict, ast.Set))]
+        if isinstance(node, ast.Assign) and len(inside) > 1:
+            faults.append(("nested", node.lineno))
+    return faults
+
+
+def shadow_faults(tree):
+    """L15: names of a file's classes and imports that its functions give to something else."""
+    classes = [node.name for node in tree.body if isinstance(node, ast.ClassDef)]
+    imports = [part.asname or part.name for node in tree.body if isinstance(node, ast.ImportFrom) for part in node.names]
+    top = {id(node) for node in tree.body}
+    faults = []
+    for name, line in given_names(tree):
+        if name in imports:
+            faults.append((name, line))
+    for node in ast.walk(tree):
+        stored = isinstance(node, ast.Name) and isinstance(node.ctx, ast.Store) and node.id in classes
+        if stored or isinstance(node, ast.arg) and node.arg in classes:
+            faults.append((node, node.lineno))
+        if isinstance(node, FUNCTIONS) and id(node) not in top and node.name in imports:
+            faults.append((node.name, node.lineno))
+    return faults
+
+
+def table_faults(tree):
+    """L15: tables at module level, imported ones too, that a function changes."""
+    names = [name for name in top_names(tree) if name.isupper()]
+    names += [part.name for node in tree.body if isinstance(node, ast.ImportFrom) for part in node.names]
+    faults = []
+    for node in ast.walk(tree):
+        changed = isinstance(node, (ast.Subscript, ast.Attribute)) and not isinstance(node.ctx, ast.Load)
+        if changed and getattr(node.value, "id", "") in names:
+            faults.append((node.value.id, node.lineno))
+        if called_name(node) in CHANGERS and getattr(node.func.value, "id", "") in names:
+            faults.append((node.func.value.id, node.lineno))
+    return faults
+
+
+def attributes_of(trees):
+    """All attributes that some class assigns to its own object, by the classes' names."""
+    found = {}
+    for tree in trees:
+        for kind in [node for node in tree.body if isinstance(node, ast.ClassDef)]:
+            found[kind.name] = set()
+            for node in ast.walk(kind):
+                if isinstance(node, ast.Attribute) and isinstance(node.ctx, ast.Store):
+                    if getattr(node.value, "id", "") == "self":
+                        found[kind.name].add(node.attr)
+    return found
+
+
 def own_methods():
     """The names of all methods of the package's classes."""
     names = {"__init__"}
@@ -245,6 +376,7 @@ def faults_of(text):
     return [
         *size_faults(text, tree), *sign_faults(text, tree), *import_faults(tree), *top_faults(tree),
         *statement_faults(tree), *name_faults(tree), *word_faults(text), *method_faults(tree, own_methods()),
+        *kept_faults(tree), *form_faults(tree), *shadow_faults(tree), *table_faults(tree),
     ]
 
 
@@ -274,6 +406,24 @@ class Language(unittest.TestCase):
             for module in free:
                 del asked[module]
 
+    def test_attributes_and_methods(self):
+        trees = [ast.parse(text) for text in sources().values()]
+        attributes = attributes_of(trees)
+        every = set().union(*attributes.values())
+        self.assertEqual(every & (BARRED_ATTRIBUTES | METHODS | BARRED_NAMES), set())
+        methods = set()
+        for tree in trees:
+            for kind in [node for node in tree.body if isinstance(node, ast.ClassDef)]:
+                names = [part.name for part in kind.body if isinstance(part, FUNCTIONS)]
+                self.assertEqual(len(names), len(set(names)), kind.name)
+                self.assertEqual(set(names) & attributes[kind.name], set(), kind.name)
+                methods |= set(names)
+        self.assertEqual(methods & every, set())
+        for tree in trees:
+            for node in ast.walk(tree):
+                if isinstance(node, ast.Attribute) and isinstance(node.ctx, ast.Load):
+                    self.assertIn(node.attr, every | methods | METHODS)
+
     def test_wrong_texts_are_found(self):
         wrong = (
             "import os\n", "from boardheld.errors import *\n", "from boardheld.errors import Nothing\n",
@@ -285,6 +435,14 @@ class Language(unittest.TestCase):
             "# " + "a" * 120 + "\n", "#\n" * 400, "def f():\n" + "    pass\n" * 40, "# \u00e4\n",
             "def f():\n    return 'a namedtuple'\n", "@f\nclass A:\n    pass\n", "@f\ndef g():\n    pass\n",
             "def f():\n    try:\n        pass\n    except:\n        pass\n", "# _wall\n",
+            "def f(a):\n    b = zip(a, a)\n    return list(b)\n", "def f(a):\n    return a.items()\n",
+            "def f(a):\n    return set(a)\n", "def f(a):\n    for k in {1, 2}:\n        a = k\n",
+            "def f(a, b):\n    return a is b\n", "def f(a):\n    raise a\n", "def f(a):\n    raise a.b()\n",
+            "def f(a):\n    try:\n        a = 1\n    except TypeError:\n        a = 2\n", "A = [[1], [2]]\n",
+            "class A:\n    pass\n\n\ndef f(A):\n    return A\n", "A = [1]\n\n\ndef f():\n    A.append(2)\n",
+            "from boardheld.errors import NoText\n\n\ndef f(NoText):\n    return 1\n",
+            "A = {1: 2}\n\n\ndef f():\n    A[1] = 3\n", "def f() -> None:\n    return None\n",
+            "from boardheld.deeds import DOINGS\n\n\ndef f():\n    del DOINGS[1]\n",
         )
         for text in wrong:
             with self.subTest(text=text[:60]):
@@ -325,6 +483,18 @@ class Interface(unittest.TestCase):
                 self.assertIn(name, told, module)
                 if arguments is not None:
                     self.assertEqual(told[name], arguments, name)
+
+    def test_only_peeks_may_be_left_out(self):
+        for module in INTERFACE:
+            for node in ast.walk(ast.parse(sources()[module])):
+                if isinstance(node, FUNCTIONS):
+                    defaults = [part.value for part in node.args.defaults]
+                    self.assertEqual(defaults, [None] if node.name == "go" else [], node.name)
+
+    def test_fields_are_set_when_an_object_is_created(self):
+        fields = {"registers", "zero", "lets", "asleep", "beat", "stopped", "sent", "memory"}
+        self.assertLessEqual(fields, set(vars(Board([], []))))
+        self.assertLessEqual(fields, set(vars(Board([], []).twin())))
 
 
 if __name__ == "__main__":

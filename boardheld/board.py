@@ -13,17 +13,23 @@ TIMER_PC = 1
 LINE_PC = 2
 
 
+def first_registers():
+    """The registers as they are at first."""
+    return {"a": 0, "b": 0, "pc": 0, "sp": STACK_TOP}
+
+
 class Board:
     """A board made of an image and a line.
 
     Beside the fields that the interface lists, touched has the words that the last turn read and put, in
-    order, and did the name of the op that it did, None where it did none.
+    order, and did the name of the op that it did, None where it did none. bend has the bits that come turned
+    about of the next word that a deed reads; it is 0 again behind that.
     """
 
     def __init__(self, image, line):
         if not is_image(image) or not is_line(line):
             raise NoImage("no image, or no line")
-        self.registers = {"a": 0, "b": 0, "pc": 0, "sp": STACK_TOP}
+        self.registers = first_registers()
         self.zero = False
         self.lets = False
         self.asleep = False
@@ -35,20 +41,34 @@ class Board:
         self.line_at = 0
         self.touched = []
         self.did = None
+        self.bend = 0
 
     def twin(self):
         """A board that stands as this one does."""
         other = Board([], self.line)
-        other.registers = dict(self.registers)
-        other.zero = self.zero
-        other.lets = self.lets
-        other.asleep = self.asleep
-        other.beat = self.beat
-        other.stopped = self.stopped
-        other.sent = list(self.sent)
-        other.memory = self.memory.twin()
-        other.line_at = self.line_at
+        other.stand_as(self)
         return other
+
+    def stand_as(self, other):
+        """Stands as another board of the same line does."""
+        self.registers = dict(other.registers)
+        self.zero = other.zero
+        self.lets = other.lets
+        self.asleep = other.asleep
+        self.beat = other.beat
+        self.stopped = other.stopped
+        self.sent = list(other.sent)
+        self.memory.stand_as(other.memory)
+        self.line_at = other.line_at
+
+    def lose_power(self):
+        """Is as at first, but for flash, the beat, the line to come and what was sent."""
+        self.registers = first_registers()
+        self.zero = False
+        self.lets = False
+        self.asleep = False
+        self.stopped = None
+        self.memory.lose_power()
 
     def coming(self):
         """What the next turn would begin with, as things stand now."""
@@ -107,6 +127,9 @@ class Board:
         if not self.may_touch(touches):
             return "stopped"
         words = [self.memory.read(address, pc) for kind, address in touches if kind == "r"]
+        if words:
+            words[0] = words[0] ^ self.bend
+            self.bend = 0
         self.did = name
         self.registers["pc"] = pc + 1
         doing = DOINGS[name]

@@ -10,6 +10,13 @@ class History:
         self.rows = []
         self.faded = 0
 
+    def twin(self):
+        """The same turns, that more are noted behind by themselves."""
+        other = History()
+        other.rows = list(self.rows)
+        other.faded = self.faded
+        return other
+
     def note(self, beat, sort, pc):
         """Notes a turn."""
         self.rows.append((beat, sort, pc))
@@ -30,6 +37,15 @@ class Counts:
         self.frames = {}
         self.idle = 0
         self.peeked = 0
+
+    def twin(self):
+        """The same counts, that go on by themselves."""
+        other = Counts()
+        other.deeds = dict(self.deeds)
+        other.frames = dict(self.frames)
+        other.idle = self.idle
+        other.peeked = self.peeked
+        return other
 
     def note_turn(self, sort, pc, beats, to):
         """Notes the beats of a turn, in the frame that leads to an address."""

@@ -11,6 +11,13 @@ class Frames:
         self.rows = []
         self.strays = 0
 
+    def twin(self):
+        """The same frames and strays, that go on by themselves."""
+        other = Frames()
+        other.rows = list(self.rows)
+        other.strays = self.strays
+        return other
+
     def follow(self, sort, did, at, to):
         """Follows a turn: its sort, the name of the deed done in it, and pc ahead of it and behind."""
         if sort == "interrupt":

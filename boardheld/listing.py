@@ -3,6 +3,7 @@
 from boardheld.errors import NoText
 from boardheld.memory import ERASED, FLASH_END, WORD_MOST
 from boardheld.ops import OP_NAMES, OPS_WITH_X, X_SPAN
+from boardheld.values import figured
 
 FIGURES_MOST = 5
 LETTERS_MOST = 8
@@ -29,11 +30,7 @@ def listed(image):
 
 def number_of(part):
     """The number that a part of a row writes, None where it writes none."""
-    if not part.isascii() or not part.isdigit() or len(part) > FIGURES_MOST:
-        return None
-    if part[0] == "0" and part != "0":
-        return None
-    return int(part)
+    return figured(part, FIGURES_MOST)
 
 
 def is_name(part):

@@ -20,6 +20,14 @@ class Marks:
         self.hard = {}
         self.erased = [0] * PAGES
 
+    def twin(self, memory):
+        """The same marks, on another memory of the same words, that come and go by themselves."""
+        other = Marks(memory)
+        memory.swapped = dict(self.memory.swapped)
+        other.hard = dict(self.hard)
+        other.erased = list(self.erased)
+        return other
+
     def stands_at(self, address):
         """Whether a mark of either kind stands at an address."""
         return address in self.hard or address in self.memory.swapped

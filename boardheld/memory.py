@@ -85,8 +85,15 @@ class Memory:
             self.words[FLAGS] = self.words[FLAGS] | TIMER_FLAG
         self.words[COUNT] = count
 
-    def twin(self):
-        """A memory with the same words, each its own: what swaps them is not the board's."""
-        other = Memory([])
-        other.words = list(self.words)
-        return other
+    def turn_bit(self, address, bit):
+        """Turns a bit of a word about."""
+        self.words[address] = self.words[address] ^ (1 << bit)
+
+    def lose_power(self):
+        """Ram and places are nought, and nothing swaps words of ram any more."""
+        self.words = self.words[:FLASH_END] + [0] * (PLACES_END - FLASH_END)
+        self.swapped = {address: True for address in self.swapped if address < FLASH_END}
+
+    def stand_as(self, other):
+        """Has the same words as another memory, each its own: what swaps them is not the board's."""
+        self.words = list(other.words)

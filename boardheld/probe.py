@@ -6,6 +6,8 @@ from boardheld.errors import Barred, NoWord
 from boardheld.frames import Frames
 from boardheld.marks import Marks
 from boardheld.memory import PLACES_END, bar_of
+from boardheld.mishaps import Mishaps
+from boardheld.stands import Stands
 from boardheld.values import is_between, is_whole, is_word
 from boardheld.watches import Watches
 
@@ -27,7 +29,10 @@ def peeks_by_turn(peeks):
 
 
 class Probe:
-    """A probe and its board, made of an image and a line."""
+    """A probe and its board, made of an image and a line.
+
+    course is None, or hears by its method note of each turn that went by.
+    """
 
     def __init__(self, image, line):
         self.board = Board(image, line)
@@ -36,7 +41,24 @@ class Probe:
         self.frames = Frames()
         self.history = History()
         self.counts = Counts()
+        self.mishaps = Mishaps()
+        self.stands = Stands()
         self.turns_gone = 0
+        self.course = None
+
+    def twin(self):
+        """A probe that holds all that this one holds, on a board that stands as this one's does."""
+        other = Probe([], self.board.line)
+        other.board = self.board.twin()
+        other.standing = self.standing.twin(other.board.memory)
+        other.watching = self.watching.twin()
+        other.frames = self.frames.twin()
+        other.history = self.history.twin()
+        other.counts = self.counts.twin()
+        other.mishaps = self.mishaps.twin()
+        other.stands = self.stands.twin()
+        other.turns_gone = self.turns_gone
+        return other
 
     def look(self, address, many):
         """So many words from an address on."""
@@ -148,20 +170,29 @@ class Probe:
         if most > 0 and self.board.stopped is not None:
             return self.board.stopped
         for number in range(most):
-            for address in peeks.get(number, []):
+            addresses = peeks.get(number, [])
+            for address in addresses:
                 words.append(self.peek(address))
             if number > 0 and self.meets_mark():
+                self.note_gone(addresses, False)
                 return ("mark", self.board.registers["pc"])
             cause = self.pass_turn(end)
+            self.note_gone(addresses, True)
             if cause is not None:
                 return cause
         return ("turns",)
+
+    def note_gone(self, addresses, whole):
+        """Tells the course which words were peeked, and whether a turn went by behind them."""
+        if self.course is not None:
+            self.course.note_gone(addresses, whole)
 
     def peek(self, address):
         """Reads a word, and lets a beat go by."""
         word = self.board.memory.word_at(address)
         self.board.pass_beats(1)
         self.counts.note_peek(self.frames.innermost())
+        self.take_faults()
         return word
 
     def meets_mark(self):
@@ -180,7 +211,31 @@ class Probe:
         return cause
 
     def follow_turn(self):
-        """Lets one turn go by, and notes it."""
+        """Lets one turn go by with the faults that come in it and behind it, and notes it."""
+        fault = self.mishaps.bending(self.board.beat)
+        if fault is None:
+            sort = self.note_turn()
+        else:
+            self.board.bend = fault[2]
+            sort = self.note_turn()
+            if self.board.bend == 0:
+                self.mishaps.come(fault, self.board.beat)
+            self.board.bend = 0
+        self.take_faults()
+        return sort
+
+    def take_faults(self):
+        """Takes the faults that come behind a turn, or a peek."""
+        for fault in self.mishaps.due(self.board.beat):
+            self.mishaps.come(fault, self.board.beat)
+            if fault[0] == "bit":
+                self.board.memory.turn_bit(fault[2], fault[3])
+            else:
+                self.board.lose_power()
+                self.frames = Frames()
+
+    def note_turn(self):
+        """Lets one turn of the board go by, and notes it."""
         beat = self.board.beat
         pc = self.board.registers["pc"]
         to = self.frames.innermost()

@@ -1,4 +1,4 @@
-"""What counts as a whole number, a word, an image and a line."""
+"""What counts as a whole number, by itself and by figures, as a word, an image and a line."""
 
 from boardheld.memory import FLASH_END, WORD_MOST
 
@@ -23,6 +23,15 @@ def is_word(thing):
 def is_image(thing):
     """Whether a thing is an image: words for flash, no more than it has room for."""
     return isinstance(thing, list) and len(thing) <= FLASH_END and all([is_word(word) for word in thing])
+
+
+def figured(part, most):
+    """The number that a text writes by at most so many figures, None where it writes none."""
+    if not part.isascii() or not part.isdigit() or len(part) > most:
+        return None
+    if part[0] == "0" and part != "0":
+        return None
+    return int(part)
 
 
 def is_line(thing):

@@ -14,6 +14,12 @@ class Watches:
     def __init__(self):
         self.rows = [None] * WATCHES
 
+    def twin(self):
+        """The same watches, set and ended by themselves."""
+        other = Watches()
+        other.rows = list(self.rows)
+        return other
+
     def lay(self, number, low, high, kind):
         """Sets a watch."""
         self.check_number(number)

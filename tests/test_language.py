@@ -73,6 +73,20 @@ INTERFACE = {
         "trace": ("probe",), "faded": ("probe",), "clear_trace": ("probe",), "profile": ("probe",),
         "spent": ("probe",), "idle": ("probe",), "peeked": ("probe",), "clear_counts": ("probe",),
     },
+    "programming": {
+        "erase": ("probe", "page"), "write": ("probe", "address", "words"), "plan": ("probe", "image"),
+        "load": ("probe", "image"), "unlike_pages": ("probe", "image"),
+        "load_cut": ("probe", "image", "at", "done"),
+    },
+    "faults": {
+        "put_fault": ("probe", "fault"), "drop_faults": ("probe",), "waiting_faults": ("probe",),
+        "met_faults": ("probe",), "keep": ("probe",), "go_back": ("probe", "number"), "kept_beats": ("probe",),
+        "unlike_words": ("probe", "number"),
+    },
+    "logs": {
+        "Desk": ("image", "line"), "Desk.say": ("row",), "Desk.log": (), "Desk.plain": (),
+        "replayed": ("image", "line", "log"),
+    },
 }
 
 

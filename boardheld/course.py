@@ -62,8 +62,6 @@ class Course:
         gone = self.probe.turns_gone + many
         if gone > len(self.turn_units):
             raise NoTurn("not so many turns were gone back over")
-        if many == 0:
-            return
         if gone < len(self.turn_units):
             self.stand_at(self.turn_units[gone])
         else:

@@ -269,6 +269,7 @@ class Does(Rows):
         go_back(probe, 0)
         probe.go(5)
         self.alike(desk, probe, (*ASKS, "changed 0", "changed 1"))
+        self.talk(desk, ("fault power 900", "done"), ("fault power 901", "done"), ("faults", "power 900; power 901"))
         self.talk(desk, ("drop", "done"), ("faults", "none"))
 
 

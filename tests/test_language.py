@@ -87,6 +87,18 @@ INTERFACE = {
         "Desk": ("image", "line"), "Desk.say": ("row",), "Desk.log": (), "Desk.plain": (),
         "replayed": ("image", "line", "log"),
     },
+    "parting": {"first_parting": ("image", "other", "line", "most")},
+    "making": {"Program": ("text",), "Program.image": (), "Program.rows_at": (), "Program.vars_at": ()},
+    "rowwise": {
+        "Rowwise": ("program", "line"), "Rowwise.probe_of": (), "Rowwise.row_now": (), "Rowwise.worth": ("name",),
+        "Rowwise.worths": (), "Rowwise.give": ("name", "word"), "Rowwise.into": ("most",), "Rowwise.over": ("most",),
+        "Rowwise.out_of": ("most",), "Rowwise.to_row": ("number", "most"),
+    },
+    "link": {
+        "letter_of": ("kind", "number", "text"), "opened": ("kind", "letter"), "Far": ("image", "line"),
+        "Far.hear": ("letter",), "Far.desk": (), "Near": (), "Near.ask": ("row",), "Near.again": (),
+        "Near.hear": ("letter",), "Near.told": (),
+    },
 }
 
 

@@ -586,6 +586,12 @@ class Bounds(unittest.TestCase):
                 Program(text)
             self.assertEqual(type(caught.exception).__bases__, (BoardError,))
 
+    def test_the_last_image_that_is_small_enough(self):
+        rows = ["out 1 half half half half half half half half"] * 51 + ["to r", "end"]
+        self.assertEqual(len(Program("\n".join(rows)).image()), 512)
+        with self.assertRaises(TooMany):
+            Program("\n".join(rows + ["to s", "end"]))
+
     def test_numbers_again_take_no_more_room(self):
         self.assertEqual([sent for sent in Run("\n".join(["out 60000 + 60000"] * 150)).begun()][0][0], 0)
         self.assertLessEqual(len(Program("\n".join(["out 60000 + 60000"] * 150)).image()), 512)

@@ -4,6 +4,7 @@ from boardheld.errors import NoLetter, Waiting
 from boardheld.logs import Desk
 from boardheld.values import figured
 
+KINDS = ("q", "a")
 NUMBER_FIGURES = 5
 CHECK_FIGURES = 4
 CHECK_SPAN = 9973
@@ -22,7 +23,7 @@ def letter_of(kind, number, text):
 
 def opened(kind, letter):
     """The number and the text of a letter of a kind."""
-    if not isinstance(letter, str) or letter[:1] != kind:
+    if not isinstance(letter, str) or kind not in KINDS or letter[:1] != kind:
         raise NoLetter("no letter of this kind")
     head, _, rest = letter[1:].partition(" ")
     check, blank, text = rest.partition(" ")

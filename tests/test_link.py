@@ -56,6 +56,11 @@ class Letters(unittest.TestCase):
         ):
             self.refused("q", letter)
 
+    def test_other_kinds(self):
+        for kind in ("b", "Q", "", "qa", "1"):
+            self.refused(kind, letter_of(kind, 1, "a"))
+            self.refused(kind, letter_of("q", 1, "a"))
+
     def test_figures_with_a_nought_ahead_and_numbers_too_great(self):
         for number in ("00", "01", "000", "00001", "100000", "123456", "", "x", "1x", "-1", "+1", " 1", "1.0", "\u0663"):
             text = "a"

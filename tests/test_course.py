@@ -364,6 +364,28 @@ class AgainstRowsDoneAgain(Talks):
             with mock.patch("boardheld.course.KEPT_EACH", each):
                 self.talks(range(60 + 20 * each, 80 + 20 * each))
 
+    def test_talks_behind_power_that_takes_a_stop_away(self):
+        image, line = typed("call 5\nlit 1\nput 600\ngo 0\nmark\nlit 2\npush\npop\nret\nlit 4\nmark")[0], []
+        taken = 0
+        for seed in range(40):
+            chance = random.Random(seed)
+            desk, again = Desk(image, line), Again(image, line)
+            rows = [
+                "keep", "go 5", "keep", "goback 0", f"fault power {chance.randrange(1, 9)}", "fault bit 5 9 12", "goback 1",
+                "set pc 300", chance.choice(["in", "go 4", "go 6 0 5 1 5 2 5"]),
+            ]
+            for _ in range(12):
+                rows.append(chance.choice(["in", "go 3", "go 2 1 600", "poke 600 5", "set pc 301", "over 3", "mark 3 hard"]))
+                rows.append(f"{chance.choice(['back', 'back', 'forth'])} {chance.randrange(1, 5)}")
+            for row in rows:
+                turns = desk.say("turns")
+                answer, due = desk.say(row), again.say(row)
+                self.assertEqual("refused" in answer, "refused" in (due or ""), (seed, row))
+                taken += row == "in" and answer == "turns" and desk.say("turns") == turns
+                for ask in ASKS:
+                    self.assertEqual(desk.say(ask), asked_of(again.probe, ask), (seed, row, ask))
+        self.assertGreater(taken, 5)
+
     def talks(self, seeds):
         done = {"back": 0, "forth": 0, "power": 0}
         for seed in seeds:

@@ -39,10 +39,12 @@ def do_row(probe, row):
         "go": lambda: probe.go(numbers[0], list(zip(numbers[1::2], numbers[2::2]))), "in": lambda: step_in(probe),
         "over": lambda: step_over(probe, numbers[0]), "out": lambda: step_out(probe, numbers[0]),
         "poke": lambda: probe.poke(*numbers), "keep": lambda: keep(probe), "goback": lambda: go_back(probe, numbers[0]),
-        "set": lambda: probe.set_register(parts[0], {"yes": True, "no": False}.get(parts[1]) if not numbers else numbers[0]),
+        "set": lambda: probe.set_register(parts[0], numbers[0] if numbers else parts[1] == "yes"),
         "mark": lambda: probe.mark(numbers[0], parts[1] == "hard"), "unmark": lambda: probe.unmark(numbers[0]),
-        "clear": probe.clear_marks, "watch": lambda: probe.watch(*numbers, parts[3]), "forget": lambda: forget_frames(probe),
-        "untrace": lambda: clear_trace(probe), "uncount": lambda: clear_counts(probe), "erase": lambda: erase(probe, *numbers),
+        "clear": probe.clear_marks, "watch": lambda: probe.watch(*numbers, parts[3]),
+        "forget": lambda: forget_frames(probe),
+        "untrace": lambda: clear_trace(probe), "uncount": lambda: clear_counts(probe),
+        "erase": lambda: erase(probe, *numbers),
         "fault": lambda: put_fault(probe, (parts[0], *numbers)), "load": lambda: load(probe, numbers),
     }
     doing[head]()
@@ -132,13 +134,15 @@ class Back(Talks):
 
     def test_none_at_first(self):
         desk = desk_of(LOOP)
-        self.talk(desk, ("back 1", "refused noturn"), ("forth 1", "refused noturn"), ("back 0", "done"), ("forth 0", "done"))
+        self.talk(desk, ("back 1", "refused noturn"), ("forth 1", "refused noturn"), ("back 0", "done"),
+            ("forth 0", "done"))
         self.talk(desk, ("poke 600 5", "done"), ("go 0", "turns"), ("back 1", "refused noturn"), ("look 600 1", "5"))
 
     def test_none_changes_nothing(self):
         desk = desk_of(LOOP)
         self.talk(desk, ("go 3", "turns"), ("poke 600 5", "done"), ("back 0", "done"), ("look 600 1", "5"))
-        self.talk(desk, ("forth 0", "done"), ("back 2", "done"), ("back 0", "done"), ("forth 0", "done"), ("forth 2", "done"))
+        self.talk(desk, ("forth 0", "done"), ("back 2", "done"), ("back 0", "done"), ("forth 0", "done"),
+            ("forth 2", "done"))
         self.talk(desk, ("look 600 1", "5"), ("turns", "3"))
 
     def test_rows_between_ahead_and_behind(self):
@@ -161,7 +165,8 @@ class Back(Talks):
         before = told(desk)
         rows = (
             "in", "mark 5 soft", "mark 6 hard", "watch 0 1 2 r", "keep", "fault bit 200 600 3", "fault bit 90 600 3",
-            "erase 9", "poke 773 5", "set b 7", "go 30 2 5", "clear", "forget", "untrace", "uncount", "goback 0", "drop",
+            "erase 9", "poke 773 5", "set b 7", "go 30 2 5", "clear", "forget", "untrace", "uncount", "goback 0",
+            "drop",
         )
         for row in rows:
             self.assertNotIn("refused", desk.say(row))
@@ -213,14 +218,16 @@ class Stops(Talks):
     def test_a_turn_at_which_the_board_stopped(self):
         desk = desk_of("lit 1\nlit 2\nmark")
         self.talk(desk, ("go 9", "mark 2"), ("turns", "2"), ("back 1", "done"), ("stop", "none"), ("register pc", "1"))
-        self.talk(desk, ("forth 1", "done"), ("stop", "mark 2"), ("turns", "2"), ("back 2", "done"), ("forth 1", "done"))
+        self.talk(desk, ("forth 1", "done"), ("stop", "mark 2"), ("turns", "2"), ("back 2", "done"),
+            ("forth 1", "done"))
         self.talk(desk, ("stop", "none"), ("register pc", "1"), ("forth 1", "done"), ("stop", "mark 2"))
 
     def test_set_going_again_by_pc(self):
         desk = desk_of("lit 1\nlit 2\nmark")
         self.talk(desk, ("go 9", "mark 2"), ("set pc 0", "done"), ("go 9", "mark 2"), ("in", "mark 2"), ("turns", "4"))
         for back, pc, stop in ((1, 1, "none"), (2, 0, "none"), (3, 1, "none"), (4, 0, "none")):
-            self.talk(desk, (f"back {back}", "done"), ("register pc", str(pc)), ("stop", stop), ("turns", str(4 - back)))
+            self.talk(desk, (f"back {back}", "done"), ("register pc", str(pc)), ("stop", stop),
+                ("turns", str(4 - back)))
             self.talk(desk, (f"forth {back}", "done"), ("register pc", "2"), ("stop", "mark 2"), ("turns", "4"))
         self.talk(desk, ("back 3", "done"), ("forth 1", "done"), ("register pc", "0"), ("stop", "none"))
 
@@ -228,7 +235,8 @@ class Stops(Talks):
         desk = desk_of("lit 1\nlit 2\nlit 3\nmark")
         self.talk(
             desk, ("keep", "0"), ("go 2 0 5 0 5 0 5 0 5 0 5", "turns; 65535 65535 65535 65535 65535"), ("keep", "1"),
-            ("goback 0", "done"), ("fault power 5", "done"), ("goback 1", "done"), ("set pc 300", "done"), ("turns", "2"),
+            ("goback 0", "done"), ("fault power 5", "done"), ("goback 1", "done"), ("set pc 300", "done"),
+            ("turns", "2"),
             # Turn 0 stops and loses power, turns 1 to 3 go by, 4 stops.
             ("go 9 1 3 2 3", "mark 3; 0 0"), ("turns", "5"), ("met", "7 power 5"),
             ("trace", "5 deed 0; 6 deed 1; 8 deed 0; 10 deed 1; 11 deed 2"),
@@ -244,10 +252,12 @@ class Stops(Talks):
         before = told(desk)
         self.talk(desk, ("go 9", "mark 3"), ("turns", "5"), ("met", "7 power 7"), ("register pc", "3"))
         # Ahead of the first turn that counts behind it the stopped one is done.
-        self.talk(desk, ("back 3", "done"), ("met", "7 power 7"), ("register pc", "0"), ("turns", "2"), ("stop", "none"))
+        self.talk(desk, ("back 3", "done"), ("met", "7 power 7"), ("register pc", "0"), ("turns", "2"),
+            ("stop", "none"))
         self.talk(desk, ("forth 1", "done"), ("register pc", "1"), ("back 2", "done"), ("turns", "1"), ("met", "none"))
         self.talk(desk, ("forth 1", "done"), ("met", "7 power 7"), ("register pc", "0"), ("turns", "2"))
-        self.talk(desk, ("forth 3", "done"), ("stop", "mark 3"), ("turns", "5"), ("back 2", "done"), ("register pc", "1"))
+        self.talk(desk, ("forth 3", "done"), ("stop", "mark 3"), ("turns", "5"), ("back 2", "done"),
+            ("register pc", "1"))
         self.talk(desk, ("back 3", "done"), ("turns", "0"), ("back 1", "refused noturn"), ("forth 5", "done"))
         self.talk(desk, ("stop", "mark 3"), ("back 3", "done"), ("in", "turns"), ("forth 1", "refused noturn"))
         self.assertEqual(before[ASKS.index("turns")], "2")
@@ -274,14 +284,17 @@ class Forth(Talks):
 
     def test_behind_rows_that_are_refused(self):
         desk = self.gone_back()
-        for row in ("poke 5 5", "what", "go 5 0 774", "out 5", "forth 4", "back 3", "set a no", "keep 1", "goback 9", "erase 16"):
+        for row in ("poke 5 5", "what", "go 5 0 774", "out 5", "forth 4", "back 3", "set a no", "keep 1", "goback 9",
+            "erase 16"):
             self.assertEqual(desk.say(row).split(" ")[0], "refused", row)
         self.talk(desk, ("forth 3", "done"), ("look 600 1", "7"), ("turns", "5"))
 
     def test_behind_rows_that_do(self):
         rows = (
-            "poke 600 5", "set a 5", "mark 5 hard", "mark 700 soft", "clear", "watch 0 1 1 r", "forget", "untrace", "uncount",
-            "erase 9", "write 40", "cut 0 0 1", "fault power 500", "drop", "go 0", "go 1", "in", "over 0", "over 9", "keep",
+            "poke 600 5", "set a 5", "mark 5 hard", "mark 700 soft", "clear", "watch 0 1 1 r", "forget", "untrace",
+            "uncount",
+            "erase 9", "write 40", "cut 0 0 1", "fault power 500", "drop", "go 0", "go 1", "in", "over 0", "over 9",
+            "keep",
             "load", "write 40 5", "load 1025 1026 1027 12288",
         )
         for row in rows:
@@ -305,12 +318,14 @@ class Forth(Talks):
     def test_a_new_way_behind_a_way_back(self):
         desk = self.gone_back()
         self.talk(desk, ("set pc 2", "done"), ("in", "turns"), ("register a", "3"), ("turns", "3"), ("back 1", "done"))
-        self.talk(desk, ("register a", "2"), ("register pc", "2"), ("back 1", "done"), ("register a", "1"), ("turns", "1"))
+        self.talk(desk, ("register a", "2"), ("register pc", "2"), ("back 1", "done"), ("register a", "1"),
+            ("turns", "1"))
         self.talk(desk, ("forth 2", "done"), ("register a", "3"), ("look 600 1", "0"), ("forth 1", "refused noturn"))
 
     def test_out_behind_a_way_back(self):
         desk = desk_of("call 3\nmark\nmark\nlit 2\nret")
-        self.talk(desk, ("go 3", "turns"), ("back 1", "done"), ("out 9", "done"), ("forth 1", "refused noturn"), ("turns", "3"))
+        self.talk(desk, ("go 3", "turns"), ("back 1", "done"), ("out 9", "done"), ("forth 1", "refused noturn"),
+            ("turns", "3"))
 
 
 class Sums(Talks):
@@ -347,10 +362,13 @@ def some_row(chance, beat):
         f"go {chance.randrange(9)}{peeks}", f"go {chance.randrange(20)}{peeks}", "in", f"over {chance.randrange(9)}",
         f"go {chance.randrange(9)}", f"go {chance.randrange(4)}", f"fault power {beat + chance.randrange(5)}",
         f"out {chance.randrange(9)}", f"poke {address} {chance.randrange(65536)}", f"set pc {near}", f"set a {near}",
-        f"set lets {chance.choice(['yes', 'no'])}", f"mark {address} soft", f"mark {near} hard", f"unmark {near}", "clear",
+        f"set lets {chance.choice(['yes', 'no'])}", f"mark {address} soft", f"mark {near} hard", f"unmark {near}",
+        "clear",
         f"watch {chance.randrange(2)} 512 {chance.randrange(512, 774)} rw", "forget", "untrace", "uncount",
-        f"fault bit {beat + chance.randrange(9)} {near} {chance.randrange(16)}", f"fault power {beat + chance.randrange(9)}",
-        f"fault read {beat + chance.randrange(9)} {chance.randrange(1, 65536)}", "keep", f"goback {chance.randrange(3)}",
+        f"fault bit {beat + chance.randrange(9)} {near} {chance.randrange(16)}",
+        f"fault power {beat + chance.randrange(9)}",
+        f"fault read {beat + chance.randrange(9)} {chance.randrange(1, 65536)}", "keep",
+        f"goback {chance.randrange(3)}",
         f"erase {chance.randrange(1, 16)}", f"load {' '.join(['1029'] * chance.randrange(9))}".strip(),
     ])
 
@@ -371,11 +389,13 @@ class AgainstRowsDoneAgain(Talks):
             chance = random.Random(seed)
             desk, again = Desk(image, line), Again(image, line)
             rows = [
-                "keep", "go 5", "keep", "goback 0", f"fault power {chance.randrange(1, 9)}", "fault bit 5 9 12", "goback 1",
+                "keep", "go 5", "keep", "goback 0", f"fault power {chance.randrange(1, 9)}", "fault bit 5 9 12",
+                "goback 1",
                 "set pc 300", chance.choice(["in", "go 4", "go 6 0 5 1 5 2 5"]),
             ]
             for _ in range(12):
-                rows.append(chance.choice(["in", "go 3", "go 2 1 600", "poke 600 5", "set pc 301", "over 3", "mark 3 hard"]))
+                rows.append(chance.choice(["in", "go 3", "go 2 1 600", "poke 600 5", "set pc 301", "over 3",
+                    "mark 3 hard"]))
                 rows.append(f"{chance.choice(['back', 'back', 'forth'])} {chance.randrange(1, 5)}")
             for row in rows:
                 turns = desk.say("turns")

@@ -78,7 +78,8 @@ class Rows(unittest.TestCase):
 
 class Made(Rows):
     def test_no_image(self):
-        for image, line in (([65536], []), ([0] * 513, []), ([], [(0, 0)]), ([], [(2, 1), (1, 1)]), (None, []), ([], 5)):
+        for image, line in (([65536], []), ([0] * 513, []), ([], [(0, 0)]), ([], [(2, 1), (1, 1)]), (None, []),
+            ([], 5)):
             for made in (lambda: Desk(image, line), lambda: replayed(image, line, [])):
                 with self.assertRaises(NoImage) as caught:
                     made()
@@ -97,7 +98,8 @@ class Made(Rows):
             desk, ("look 0 2", "65535 65535"), ("look 0 0", "none"), ("register sp", "767"), ("register zero", "no"),
             ("stop", "none"), ("sent", "none"), ("turns", "0"), ("marks", "none"), ("wear", " ".join("0" * 16)),
             ("watches", "-; -"), ("frames", "none"), ("strays", "0"), ("trace", "none"), ("faded", "0"),
-            ("profile", "none"), ("spent", "none"), ("idle", "0"), ("peeked", "0"), ("plan", "none"), ("unlike", "none"),
+            ("profile", "none"), ("spent", "none"), ("idle", "0"), ("peeked", "0"), ("plan", "none"),
+            ("unlike", "none"),
             ("faults", "none"), ("met", "none"), ("stands", "none"), ("changed 0", "refused noword"),
         )
 
@@ -106,8 +108,8 @@ class Asks(Rows):
     def busy(self):
         """A desk and a probe to which the same was done."""
         desk, probe = desk_of(BUSY, LINE), Probe(typed(BUSY)[0], list(LINE))
-        rows = "go 90 3 600 3 601 80 5", "mark 5 soft", "mark 600 hard", "mark 700 soft", "watch 1 512 600 rw", "keep", \
-            "fault bit 300 600 3", "fault read 290 9", "fault power 900", "erase 15", "go 60", "keep", "poke 600 77"
+        rows = "go 90 3 600 3 601 80 5", "mark 5 soft", "mark 600 hard", "mark 700 soft", "watch 1 512 600 rw", \
+            "keep", "fault bit 300 600 3", "fault read 290 9", "fault power 900", "erase 15", "go 60", "keep", "poke 600 77"
         for row in rows:
             self.assertNotIn("refused", desk.say(row))
         probe.go(90, [(3, 600), (3, 601), (80, 5)])
@@ -145,7 +147,8 @@ class Asks(Rows):
             ("trace", "0 deed 0; 3 deed 3; 5 deed 4"), ("profile", "0 1 2; 3 1 1; 4 1 2"), ("spent", "-1 2; 3 5"),
             ("mark 3 hard", "done"), ("mark 700 soft", "done"), ("marks", "3 hard; 700 soft"),
             ("watch 1 512 600 rw", "done"), ("watches", "-; 512 600 rw"), ("watch 0 1 1 r", "done"),
-            ("watches", "1 1 r; 512 600 rw"), ("go 5", "turns"), ("idle", "4"), ("turns", "8"), ("keep", "0"), ("keep", "1"),
+            ("watches", "1 1 r; 512 600 rw"), ("go 5", "turns"), ("idle", "4"), ("turns", "8"), ("keep", "0"),
+            ("keep", "1"),
             ("stands", "12 12"), ("unmark 700", "done"), ("plan 15363 0 0 1031 3845 19456 1", "write 6 1"),
             ("plan 15363 1", "erase 0; write 0 15363 1"), ("unlike 0 0", "0"), ("unlike", "0"),
             ("unlike " + " ".join("5" * 65), "0 1 2"),
@@ -160,8 +163,10 @@ class Asks(Rows):
         self.talk(
             desk, ("go 0", "turns"), ("in", "turns"), ("out 9", "done"), ("watch 1 600 601 w", "done"),
             ("over 3", "watch 1 600 w"), ("go 3", "mark 2"), ("stop", "mark 2"), ("in", "mark 2"), ("over 1", "mark 2"),
-            ("set pc 300", "done"), ("stop", "none"), ("in", "none 300"), ("set pc 1000", "done"), ("go 5", "far 1000 1000"),
-            ("set pc 0", "done"), ("mark 3 hard", "done"), ("go 9 1 3 1 600 5 5", "mark 3; 1031 7"), ("over 0", "turns"),
+            ("set pc 300", "done"), ("stop", "none"), ("in", "none 300"), ("set pc 1000", "done"),
+            ("go 5", "far 1000 1000"),
+            ("set pc 0", "done"), ("mark 3 hard", "done"), ("go 9 1 3 1 600 5 5", "mark 3; 1031 7"),
+            ("over 0", "turns"),
             ("out 0", "turns"), ("out 9", "done"), ("out 9", "refused noframe"),
         )
 
@@ -199,9 +204,12 @@ class Does(Rows):
     def test_going(self):
         desk, probe = self.pair()
         for row, asked in (
-            ("go 40 3 600 39 5 40 6", lambda: probe.go(40, [(3, 600), (39, 5), (40, 6)])), ("in", lambda: step_in(probe)),
-            ("over 50", lambda: step_over(probe, 50)), ("over 1", lambda: step_over(probe, 1)), ("go 7", lambda: probe.go(7)),
-            ("go 0", lambda: probe.go(0)), ("go 300", lambda: probe.go(300)), ("go 1 0 5 0 6", lambda: probe.go(1, [(0, 5), (0, 6)])),
+            ("go 40 3 600 39 5 40 6", lambda: probe.go(40, [(3, 600), (39, 5), (40, 6)])),
+            ("in", lambda: step_in(probe)),
+            ("over 50", lambda: step_over(probe, 50)), ("over 1", lambda: step_over(probe, 1)),
+            ("go 7", lambda: probe.go(7)),
+            ("go 0", lambda: probe.go(0)), ("go 300", lambda: probe.go(300)),
+            ("go 1 0 5 0 6", lambda: probe.go(1, [(0, 5), (0, 6)])),
         ):
             told = asked()
             if row[:2] == "go":
@@ -277,19 +285,24 @@ class Refused(Rows):
     def test_each_refusal(self):
         desk = Desk([3] * 40, [])
         self.talk(
-            desk, ("poke 5 5", "refused barred flash"), ("poke 774 5", "refused barred far"), ("poke 1023 5", "refused barred far"),
-            ("poke 772 5", "refused barred still"), ("poke 1024 5", "refused noword"), ("poke 5 65536", "refused noword"),
+            desk, ("poke 5 5", "refused barred flash"), ("poke 774 5", "refused barred far"),
+            ("poke 1023 5", "refused barred far"),
+            ("poke 772 5", "refused barred still"), ("poke 1024 5", "refused noword"),
+            ("poke 5 65536", "refused noword"),
             ("look 774 0", "refused noword"), ("look 0 775", "refused noword"), ("register c", "refused noword"),
             ("register A", "refused noword"), ("set c 5", "refused noword"), ("set a yes", "refused noword"),
             ("set zero 1", "refused noword"), ("set a 65536", "refused noword"), ("set beat 5", "refused noword"),
             ("mark 768 hard", "refused noword"), ("mark 3 hard", "done"), ("mark 3 soft", "refused taken"),
             ("mark 4 hard", "done"), ("mark 5 hard", "refused toomany"), ("unmark 5", "refused nomark"),
-            ("watch 2 1 1 r", "refused noword"), ("watch 0 5 4 r", "refused noword"), ("watch 0 1 1 x", "refused noword"),
+            ("watch 2 1 1 r", "refused noword"), ("watch 0 5 4 r", "refused noword"),
+            ("watch 0 1 1 x", "refused noword"),
             ("watch 0 1 1 wr", "refused noword"), ("unwatch 0", "refused nomark"), ("unwatch 2", "refused noword"),
             ("erase 16", "refused noword"), ("write 512", "refused noword"), ("write 0 4", "refused unerased 0"),
-            ("write 35 3 3 4", "refused unerased 37"), ("plan 65536", "refused noimage"), ("load 65536", "refused noimage"),
+            ("write 35 3 3 4", "refused unerased 37"), ("plan 65536", "refused noimage"),
+            ("load 65536", "refused noimage"),
             ("unlike 65536", "refused noimage"), ("cut 0 0 65536", "refused noimage"),
-            ("plan " + " ".join(["0"] * 513), "refused noimage"), ("mark 33 soft", "done"), ("erase 1", "refused marked 33"),
+            ("plan " + " ".join(["0"] * 513), "refused noimage"), ("mark 33 soft", "done"),
+            ("erase 1", "refused marked 33"),
             ("write 30 3 3 3 3", "refused marked 33"), ("load", "refused marked 33"), ("cut 9 9", "refused marked 33"),
             ("fault bit 5", "refused noword"), ("fault power", "refused noword"), ("fault pow 5", "refused noword"),
             ("fault power 0", "refused noword"), ("changed 0", "refused noword"), ("goback 0", "refused noword"),
@@ -304,8 +317,8 @@ class Refused(Rows):
         desk, probe = desk_of(BUSY, LINE), Probe(typed(BUSY)[0], list(LINE))
         desk.say("go 90")
         probe.go(90)
-        rows = "poke 5 5", "poke 9 70000", "set a no", "mark 800 soft", "unmark 3", "watch 0 9 8 r", "unwatch 1", "erase 16", \
-            "write 0 65535", "load 70000", "cut 9 0", "fault power 3", "goback 0", "go 5 3 774", "back 91", "forth 1", \
+        rows = "poke 5 5", "poke 9 70000", "set a no", "mark 800 soft", "unmark 3", "watch 0 9 8 r", "unwatch 1", \
+            "erase 16", "write 0 65535", "load 70000", "cut 9 0", "fault power 3", "goback 0", "go 5 3 774", "back 91", "forth 1", \
             "go", "in 5", "keep 5", "nothing"
         for row in rows:
             self.assertEqual(desk.say(row).split(" ")[0], "refused", row)
@@ -316,23 +329,37 @@ class NoRows(Rows):
     def test_what_is_no_row(self):
         desk = desk_of(BUSY)
         rows = [
-            "", " ", "  ", "look", "look 1", "look 1 2 3", "look  1 2", "look 1  2", " look 1 2", "look 1 2 ", "look 01 2",
-            "look 1 02", "look 00 1", "look -1 2", "look +1 2", "look 1 2.", "look 1 x", "look 1 12345678", "look 00000001 1",
-            "Look 1 2", "LOOK 1 2", "loo 1 2", "looks 1 2", "look\n1 2", "look 1 2\n", "look 1\n 2", "look\t1\t2", "register",
-            "register ", "register a b", "stop 1", "stop ", " stop", "stop\n", "sent 0", "turns now", "marks 1", "wear 0",
-            "watches 0", "frames 0", "strays 1", "trace 5", "faded 1", "profile 1", "spent 1", "idle 1", "peeked 1", "plan x",
-            "plan 1 x", "plan 1 02", "plan 1  2", "plan ", "plan 12345678", "unlike x", "unlike ", "unlike 1 ", "faults 1",
+            "", " ", "  ", "look", "look 1", "look 1 2 3", "look  1 2", "look 1  2", " look 1 2", "look 1 2 ",
+            "look 01 2",
+            "look 1 02", "look 00 1", "look -1 2", "look +1 2", "look 1 2.", "look 1 x", "look 1 12345678",
+            "look 00000001 1",
+            "Look 1 2", "LOOK 1 2", "loo 1 2", "looks 1 2", "look\n1 2", "look 1 2\n", "look 1\n 2", "look\t1\t2",
+            "register",
+            "register ", "register a b", "stop 1", "stop ", " stop", "stop\n", "sent 0", "turns now", "marks 1",
+            "wear 0",
+            "watches 0", "frames 0", "strays 1", "trace 5", "faded 1", "profile 1", "spent 1", "idle 1", "peeked 1",
+            "plan x",
+            "plan 1 x", "plan 1 02", "plan 1  2", "plan ", "plan 12345678", "unlike x", "unlike ", "unlike 1 ",
+            "faults 1",
             "met 1", "stands 1", "changed", "changed x", "changed 0 0", "changed ", "poke", "poke 5", "poke 600 5 5",
             "poke x 5", "poke 600 yes", "poke 600 -5", "set", "set a", "set a x", "set a Yes", "set a 5 5", "set a 05",
-            "set a true", "set a 12345678", "mark", "mark 5", "mark 5 x", "mark 5 Hard", "mark hard 5", "mark 5 hard soft",
-            "mark x hard", "unmark", "unmark x", "unmark 5 5", "clear 5", "clear marks", "watch", "watch 0 1 2", "watch 0 1 2 r w",
-            "watch x 1 2 r", "watch 0 x 2 r", "watch 0 1 x r", "unwatch", "unwatch x", "unwatch 0 0", "forget 1", "untrace 1",
-            "uncount 1", "erase", "erase x", "erase 1 1", "write", "write x", "write 5 x", "write 5 1 2 03", "cut", "cut 1",
-            "cut x 1", "cut 1 x", "cut 1 1 x", "fault", "fault bit x", "fault bit 5 5 x", "fault ", "fault power 05", "drop 1",
+            "set a true", "set a 12345678", "mark", "mark 5", "mark 5 x", "mark 5 Hard", "mark hard 5",
+            "mark 5 hard soft",
+            "mark x hard", "unmark", "unmark x", "unmark 5 5", "clear 5", "clear marks", "watch", "watch 0 1 2",
+            "watch 0 1 2 r w",
+            "watch x 1 2 r", "watch 0 x 2 r", "watch 0 1 x r", "unwatch", "unwatch x", "unwatch 0 0", "forget 1",
+            "untrace 1",
+            "uncount 1", "erase", "erase x", "erase 1 1", "write", "write x", "write 5 x", "write 5 1 2 03", "cut",
+            "cut 1",
+            "cut x 1", "cut 1 x", "cut 1 1 x", "fault", "fault bit x", "fault bit 5 5 x", "fault ", "fault power 05",
+            "drop 1",
             "goback", "goback x", "goback 0 0", "back", "back x", "back 1 1", "back -1", "back 00", "forth", "forth x",
-            "forth 1 1", "go", "go x", "go 1 0", "go 1 0 5 1", "go 1 0 x", "go 1 x 5", "go  1", "go 1 ", "in 1", "in ", "over",
-            "over x", "over 1 1", "out", "out x", "out 1 1", "load x", "load 1 x", "keep 1", "keep ", "say", "log", "plain", "1",
-            "5 look", "done", "norow", "refused", "stop_told", "step_in", "unlike_pages", "peek 5", "turn", "turns\n", "\nturns",
+            "forth 1 1", "go", "go x", "go 1 0", "go 1 0 5 1", "go 1 0 x", "go 1 x 5", "go  1", "go 1 ", "in 1", "in ",
+            "over",
+            "over x", "over 1 1", "out", "out x", "out 1 1", "load x", "load 1 x", "keep 1", "keep ", "say", "log",
+            "plain", "1",
+            "5 look", "done", "norow", "refused", "stop_told", "step_in", "unlike_pages", "peek 5", "turn", "turns\n",
+            "\nturns",
             "\n", "go_back 0", "yes", "1234567", "none", "-", ";",
         ]
         before = [desk.say(row) for row in ASKS]
@@ -352,13 +379,15 @@ class NoRows(Rows):
         self.talk(
             desk, ("look 0 0", "none"), ("look 9999999 0", "refused noword"), ("look 10000000 0", "refused norow"),
             ("go 1 9999999 5", "turns"), ("go 1 10000000 5", "refused norow"), ("go 9 9999999 774", "refused noword"),
-            ("fault power 1000000", "done"), ("fault power 1000001", "refused noword"), ("back 0", "done"), ("forth 0", "done"),
+            ("fault power 1000000", "done"), ("fault power 1000001", "refused noword"), ("back 0", "done"),
+            ("forth 0", "done"),
             ("over 9999999", "done"), ("unmark 9999999", "refused nomark"),
         )
 
 
 class Logs(Rows):
-    ROWS = ("go 20", "what", "keep", "poke 5 5", "register a", "go 30 5 600", "back 7", "forth 3", "sent", "", "out 9", "turns")
+    ROWS = ("go 20", "what", "keep", "poke 5 5", "register a", "go 30 5 600", "back 7", "forth 3", "sent", "", "out 9",
+        "turns")
 
     def said(self):
         desk = desk_of(BUSY, LINE)
@@ -367,7 +396,8 @@ class Logs(Rows):
     def test_all_rows_said(self):
         desk, due = self.said()
         self.assertEqual(desk.log(), due)
-        self.assertEqual([row for row in due if row[1] == "refused norow"], [("what", "refused norow"), ("", "refused norow")])
+        self.assertEqual([row for row in due if row[1] == "refused norow"],
+            [("what", "refused norow"), ("", "refused norow")])
         self.assertEqual(due[3], ("poke 5 5", "refused barred flash"))
         self.assertEqual(Desk([], []).log(), [])
 
@@ -408,7 +438,8 @@ class Whole(Rows):
     def test_a_desk_s_board_does_what_the_same_board_does_alone(self):
         image = typed(BUSY)[0]
         desk, board = Desk(list(image), list(LINE)), Board(image, list(LINE))
-        for row in ("mark 50 hard", "mark 3 soft", "watch 0 600 600 r", "go 30", "keep", "go 90", "in", "over 40", "trace"):
+        for row in ("mark 50 hard", "mark 3 soft", "watch 0 600 600 r", "go 30", "keep", "go 90", "in", "over 40",
+            "trace"):
             desk.say(row)
         for _ in range(int(desk.say("turns"))):
             board.turn()

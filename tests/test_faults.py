@@ -58,7 +58,8 @@ class Laid(Refusing):
         wrong = [
             *NO_NUMBERS, 5, "power", ("power",), (), ["power", 5], ("power", 5, 0), ("Power", 5), ("bit", 5),
             ("bit", 5, 1), ("bit", 5, 1, 1, 1), ("read", 5), ("read", 5, 1, 1), ("bits", 5, 1, 1), ("bit", 5, 768, 0),
-            ("bit", 5, -1, 0), ("bit", 5, 5, 16), ("bit", 5, 5, -1), ("read", 5, 0), ("read", 5, 65536), ("read", 5, -1),
+            ("bit", 5, -1, 0), ("bit", 5, 5, 16), ("bit", 5, 5, -1), ("read", 5, 0), ("read", 5, 65536),
+            ("read", 5, -1),
             ("bit", 0, 1, 1), ("bit", 1000001, 1, 1), ("read", 0, 1), ("read", 1000001, 1), ("power", 0), ("power", -1),
             ("power", 1000001), (5, 5), ("power", 10 ** 30), ("", 5), (b"power", 5), (5, "power"), {"power": 5},
             ("bit", 5, 773, 0), ["bit", 5, 1, 1],
@@ -85,7 +86,8 @@ class Laid(Refusing):
             put_fault(probe, fault)
         for fault in faults:
             self.refused(NoWord, probe, fault)
-        for fault in (("power", 7), ("bit", 6, 1, 2), ("bit", 6, 2, 1), ("bit", 7, 1, 1), ("read", 6, 2), ("read", 7, 1)):
+        for fault in (("power", 7), ("bit", 6, 1, 2), ("bit", 6, 2, 1), ("bit", 7, 1, 1), ("read", 6, 2),
+            ("read", 7, 1)):
             put_fault(probe, fault)
         self.assertEqual(len(waiting_faults(probe)), 9)
 

@@ -344,7 +344,8 @@ def form_faults(tree):
 def shadow_faults(tree):
     """L15: names of a file's classes and imports that its functions give to something else."""
     classes = [node.name for node in tree.body if isinstance(node, ast.ClassDef)]
-    imports = [part.asname or part.name for node in tree.body if isinstance(node, ast.ImportFrom) for part in node.names]
+    imports = [part.asname or part.name for node in tree.body if isinstance(node,
+        ast.ImportFrom) for part in node.names]
     top = {id(node) for node in tree.body}
     faults = []
     for name, line in given_names(tree):

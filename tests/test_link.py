@@ -38,7 +38,8 @@ class Letters(unittest.TestCase):
         self.assertEqual(opened(letter="q1 695 a", kind="q"), (1, "a"))
 
     def test_both_kinds_numbers_and_texts(self):
-        texts = ("", " ", "  ", "a", "look 0 5", " a ", "\n", "a\nb\n", "q1 695 a", "0", "5 5", "~" * 300, "; -", "refused norow")
+        texts = ("", " ", "  ", "a", "look 0 5", " a ", "\n", "a\nb\n", "q1 695 a", "0", "5 5", "~" * 300, "; -",
+            "refused norow")
         for kind in ("q", "a"):
             for number in (0, 1, 9, 10, 99, 12345, 99999):
                 for text in texts:
@@ -49,9 +50,12 @@ class Letters(unittest.TestCase):
 
     def test_what_is_no_letter(self):
         for letter in (
-            "", "q", " ", "q1", "q1 ", "q1 695", "q1 695a", "1 695 a", "q 695 a", "Q1 695 a", "q1 695 b", "q1 694 a", "q1 696 a",
-            "q2 695 a", "q1  695 a", "q1 695  a", " q1 695 a", "q1 695 a ", "q01 695 a", "q1 0695 a", "q1 00695 a", "q+1 695 a",
-            "q1 +695 a", "q-1 695 a", "q1 -695 a", "q1 695\ta", "q1\n695 a", "q1 10668 a", "qq1 695 a", "q1 x a", "qx 695 a",
+            "", "q", " ", "q1", "q1 ", "q1 695", "q1 695a", "1 695 a", "q 695 a", "Q1 695 a", "q1 695 b", "q1 694 a",
+            "q1 696 a",
+            "q2 695 a", "q1  695 a", "q1 695  a", " q1 695 a", "q1 695 a ", "q01 695 a", "q1 0695 a", "q1 00695 a",
+            "q+1 695 a",
+            "q1 +695 a", "q-1 695 a", "q1 -695 a", "q1 695\ta", "q1\n695 a", "q1 10668 a", "qq1 695 a", "q1 x a",
+            "qx 695 a",
             "q1.0 695 a", "q1 695.0 a", "a1 695 a", "q1 695 A", "q1 695 aa", "695 q1 a", "q1 a", "q1 a 695", "b1 695 a",
         ):
             self.refused("q", letter)
@@ -62,7 +66,8 @@ class Letters(unittest.TestCase):
             self.refused(kind, letter_of("q", 1, "a"))
 
     def test_figures_with_a_nought_ahead_and_numbers_too_great(self):
-        for number in ("00", "01", "000", "00001", "100000", "123456", "", "x", "1x", "-1", "+1", " 1", "1.0", "\u0663"):
+        for number in ("00", "01", "000", "00001", "100000", "123456", "", "x", "1x", "-1", "+1", " 1", "1.0",
+            "\u0663"):
             text = "a"
             letter = f"q{number} {check_of(f'q{number} {text}')} {text}"
             self.refused("q", letter)
@@ -125,7 +130,8 @@ class FarEnd(unittest.TestCase):
 
     def test_in_order(self):
         far, desk = self.far(), Desk(typed(BUSY)[0], list(LINE))
-        for number, row in enumerate(("go 30", "turns", "what", "poke 5 5", "", "back 3", "sent", "keep", "look 0 20"), 1):
+        for number, row in enumerate(("go 30", "turns", "what", "poke 5 5", "", "back 3", "sent", "keep", "look 0 20"),
+            1):
             self.assertEqual(self.hear(far, number, row), letter_of("a", number, desk.say(row)))
             self.assertEqual(far.desk().log(), desk.log())
         self.assertEqual(board_stands(far.desk().plain()), board_stands(desk.plain()))
@@ -169,7 +175,8 @@ class FarEnd(unittest.TestCase):
     def test_what_is_no_letter_of_kind_q(self):
         far = self.far()
         letter = letter_of("q", 1, "keep")
-        for other in (letter_of("a", 1, "keep"), letter + " ", letter[1:], "", "keep", letter.replace("e", "f"), "q01" + letter[2:]):
+        for other in (letter_of("a", 1, "keep"), letter + " ", letter[1:], "", "keep", letter.replace("e", "f"),
+            "q01" + letter[2:]):
             self.assertIsNone(far.hear(other))
         self.assertEqual(far.desk().log(), [])
         self.assertEqual(far.hear(letter=letter), letter_of("a", 1, "0"))
@@ -227,7 +234,8 @@ class NearEnd(unittest.TestCase):
         near.ask("turns")
         letter = letter_of("a", 2, "y")
         for other in (
-            letter_of("a", 1, "y"), letter_of("a", 3, "y"), letter_of("a", 0, "y"), letter_of("q", 2, "y"), near.again(), "", "y",
+            letter_of("a", 1, "y"), letter_of("a", 3, "y"), letter_of("a", 0, "y"), letter_of("q", 2, "y"),
+            near.again(), "", "y",
             letter + "y", letter[:-1] + "z", letter[1:], "a02" + letter[2:],
         ):
             self.assertIsNone(near.hear(other))
@@ -278,8 +286,10 @@ class Road(unittest.TestCase):
 
     def test_talks(self):
         rows = (
-            "go 9", "turns", "keep", "sent", "poke 600 5", "poke 5 5", "in", "over 20", "back 2", "forth 1", "trace", "what", "mark 9 soft",
-            "go 50 3 600", "clear", "goback 0", "profile", "look 500 274", "fault bit 200 600 3", "met", "", "register beat", "load 1 2 3",
+            "go 9", "turns", "keep", "sent", "poke 600 5", "poke 5 5", "in", "over 20", "back 2", "forth 1", "trace",
+            "what", "mark 9 soft",
+            "go 50 3 600", "clear", "goback 0", "profile", "look 500 274", "fault bit 200 600 3", "met", "",
+            "register beat", "load 1 2 3",
         )
         for seed in range(60):
             chance = random.Random(seed)

@@ -138,7 +138,8 @@ def some_block(chance, names, routines, counters, depth):
         elif kind == "while" and depth < 2 and counters:
             counter, rest = counters[0], counters[1:]
             ways = (
-                (f"while {counter}", f"{counter} = {counter} - 1"), (f"while not {counter} & 4", f"{counter} = {counter} + 1"),
+                (f"while {counter}", f"{counter} = {counter} - 1"),
+                (f"while not {counter} & 4", f"{counter} = {counter} + 1"),
                 (f"while high {counter} + 32764 & 65532 ^ 32768", f"{counter} = {counter} + 1"),
             )
             asked, step = chance.choice(ways)
@@ -188,11 +189,15 @@ class Texts(unittest.TestCase):
 class MayStand(Texts):
     def test_each_row(self):
         for text in (
-            "", "\n", "\n\n\n", "var x", "var x\nx = 5", "out 5", "out in", "var abcdefgh\nabcdefgh = abcdefgh", "to x\nend",
+            "", "\n", "\n\n\n", "var x", "var x\nx = 5", "out 5", "out in", "var abcdefgh\nabcdefgh = abcdefgh",
+            "to x\nend",
             "while 1\nend", "if 0\nend", "if 1\nelse\nend", "do r\nto r\nend", "to r\ndo r\nend", "var x\nx = x half",
-            "var vars\nvar ins\nvar outs\nvar ends\nvars = ins", "out 0", "out 65535", "out 1 + 2 - 3 & 4 ^ 5", "out 1 half half",
-            "while not 1\nend", "while high 1\nend", "if not in\nend", "if high 0 half\nend", "to r\nif 1\nelse\nend\nend",
-            "while 1\nwhile 2\nif 3\nend\nend\nend", "out 1\nvar x\nx = 1\nto r\nend\nvar y\ny = x\nto s\nend", "to a\nend\ndo a",
+            "var vars\nvar ins\nvar outs\nvar ends\nvars = ins", "out 0", "out 65535", "out 1 + 2 - 3 & 4 ^ 5",
+            "out 1 half half",
+            "while not 1\nend", "while high 1\nend", "if not in\nend", "if high 0 half\nend",
+            "to r\nif 1\nelse\nend\nend",
+            "while 1\nwhile 2\nif 3\nend\nend\nend", "out 1\nvar x\nx = 1\nto r\nend\nvar y\ny = x\nto s\nend",
+            "to a\nend\ndo a",
         ):
             Program(text)
 
@@ -245,19 +250,28 @@ class MayNotStand(Texts):
 
     def test_forms(self):
         self.wrong_rows(
-            self.AHEAD, "var", "var a b", "var a = 5", "x", "x =", "x = ", "x 5", "= 5", "x == 5", "x=5", "x= 5", "x =5", "x = y =",
-            "out", "out ", "out x y", "out = 5", "while", "if", "to", "do", "do r r", "to s t", "else x", "end x", "var a\t", " ", "  ",
-            " x = 5", "x = 5 ", "x  = 5", "x =  5", "x = 5  + 3", " out 5", "out 5 ", "out  5", " var a", "var  a", "var a ", " end",
-            "end ", " else", "while  1", "while 1 ", " do r", "do r ", "do  r", "to  s", "to s ", "nothing", "r", "5", "not x", "high x",
-            "half", "in", "in = 5", "Out 5", "OUT 5", "x = 5\t", "let 5", "x + 5", "5 = x", "x = 5 = 5", "out 5 out 5", "x = to", "#",
+            self.AHEAD, "var", "var a b", "var a = 5", "x", "x =", "x = ", "x 5", "= 5", "x == 5", "x=5", "x= 5",
+            "x =5", "x = y =",
+            "out", "out ", "out x y", "out = 5", "while", "if", "to", "do", "do r r", "to s t", "else x", "end x",
+            "var a\t", " ", "  ",
+            " x = 5", "x = 5 ", "x  = 5", "x =  5", "x = 5  + 3", " out 5", "out 5 ", "out  5", " var a", "var  a",
+            "var a ", " end",
+            "end ", " else", "while  1", "while 1 ", " do r", "do r ", "do  r", "to  s", "to s ", "nothing", "r", "5",
+            "not x", "high x",
+            "half", "in", "in = 5", "Out 5", "OUT 5", "x = 5\t", "let 5", "x + 5", "5 = x", "x = 5 = 5", "out 5 out 5",
+            "x = to", "#",
         )
 
     def test_reckonings(self):
         wrong = (
-            "+", "5 +", "+ 5", "5 + + 5", "5 5", "5 x", "x y", "5 half 5", "half 5", "half", "5 + half", "5 half half +", "5 * 5", "5 | 5",
-            "5+5", "5 +5", "not 5", "high 5", "5 + not 5", "5 - high 5", "r", "5 + r", "z", "5 + z", "-5", "+5", "5 & ", "5 ^", "5 %", "5 / 5",
-            "65536", "99999", "100000", "00", "01", "05 + 5", "5 + 05", "000000", "123456", "0x5", "5.0", "x5", "5x", "X", "5 + 65536",
-            "out", "while", "in in", "in + in in", "5 in", "(5)", "5 , 5", "half half", "x = 5", "5 + =", "and", "5 and 5",
+            "+", "5 +", "+ 5", "5 + + 5", "5 5", "5 x", "x y", "5 half 5", "half 5", "half", "5 + half",
+            "5 half half +", "5 * 5", "5 | 5",
+            "5+5", "5 +5", "not 5", "high 5", "5 + not 5", "5 - high 5", "r", "5 + r", "z", "5 + z", "-5", "+5", "5 & ",
+            "5 ^", "5 %", "5 / 5",
+            "65536", "99999", "100000", "00", "01", "05 + 5", "5 + 05", "000000", "123456", "0x5", "5.0", "x5", "5x",
+            "X", "5 + 65536",
+            "out", "while", "in in", "in + in in", "5 in", "(5)", "5 , 5", "half half", "x = 5", "5 + =", "and",
+            "5 and 5",
         )
         for ahead in ("x = ", "out ", "while ", "if ", "while not ", "if high "):
             for reckoning in wrong:
@@ -265,7 +279,8 @@ class MayNotStand(Texts):
                     continue
                 self.refused(self.AHEAD + ahead + reckoning, 4)
         for ahead in ("while ", "if "):
-            for asked in ("not", "high", "not not 5", "high high 5", "not high 5", "high not 5", "5 not", "5 high", "not half"):
+            for asked in ("not", "high", "not not 5", "high high 5", "not high 5", "high not 5", "5 not", "5 high",
+                "not half"):
                 self.refused(self.AHEAD + ahead + asked, 4)
 
     def test_vars_ahead_of_their_rows(self):
@@ -348,10 +363,13 @@ class Runs(unittest.TestCase):
 
     def test_reckonings(self):
         cases = {
-            "0": 0, "5": 5, "1023": 1023, "1024": 1024, "65535": 65535, "5 + 3": 8, "5 - 3": 2, "3 - 5": 65534, "65535 + 1": 0,
-            "65535 + 65535": 65534, "12 & 10": 8, "12 ^ 10": 6, "7 half": 3, "65535 half": 32767, "1 half": 0, "0 half": 0,
+            "0": 0, "5": 5, "1023": 1023, "1024": 1024, "65535": 65535, "5 + 3": 8, "5 - 3": 2, "3 - 5": 65534,
+            "65535 + 1": 0,
+            "65535 + 65535": 65534, "12 & 10": 8, "12 ^ 10": 6, "7 half": 3, "65535 half": 32767, "1 half": 0,
+            "0 half": 0,
             "10 - 3 - 2": 5, "1 + 6 half": 3, "1 + 2 & 2 ^ 7": 5, "0 - 1 half": 32767, "40000 + 40000 half": 7232,
-            "5 + 5 + 5 + 5 + 5 + 5 + 5 + 5 + 5": 45, "65535 half half half half half half half half": 255, "in": 0, "7 + in": 7,
+            "5 + 5 + 5 + 5 + 5 + 5 + 5 + 5 + 5": 45, "65535 half half half half half half half half": 255, "in": 0,
+            "7 + in": 7,
             "2000 & 3000 ^ 5000 - 60000 half + 2000": (((2000 & 3000 ^ 5000) - 60000) % 65536 // 2 + 2000) % 65536,
         }
         for reckoning, due in cases.items():
@@ -359,7 +377,8 @@ class Runs(unittest.TestCase):
             self.assertEqual(self.run_of(f"var x\nx = {reckoning}\nout x"), [due], reckoning)
 
     def test_vars(self):
-        self.assertEqual(self.run_of("var x\nout x\nx = 5\nout x\nvar y\nout y\ny = x + x\nx = y\nout x", x=10, y=10), [0, 5, 0, 10])
+        self.assertEqual(self.run_of("var x\nout x\nx = 5\nout x\nvar y\nout y\ny = x + x\nx = y\nout x", x=10, y=10),
+            [0, 5, 0, 10])
         self.assertEqual(self.run_of("var x\nx = x - 1\nx = x half\nout x", x=32767), [32767])
 
     def test_in(self):
@@ -372,13 +391,15 @@ class Runs(unittest.TestCase):
     def test_while(self):
         self.assertEqual(self.run_of("var n\nn = 3\nwhile n\nout n\nn = n - 1\nend\nout 9"), [3, 2, 1, 9])
         self.assertEqual(self.run_of("var n\nwhile not n & 4\nout n\nn = n + 1\nend\nout 9"), [0, 1, 2, 3, 9])
-        self.assertEqual(self.run_of("var n\nn = 32770\nwhile high n\nout n\nn = n - 1\nend\nout 9"), [32770, 32769, 32768, 9])
+        self.assertEqual(self.run_of("var n\nn = 32770\nwhile high n\nout n\nn = n - 1\nend\nout 9"),
+            [32770, 32769, 32768, 9])
         for asked in ("0", "not 1", "high 32767", "not 65535", "high 0", "3 - 3", "not 3 - 2", "high 32768 half"):
             self.assertEqual(self.run_of(f"while {asked}\nout 1\nend\nout 9"), [9], asked)
 
     def test_if(self):
         asked = {
-            "0": 0, "1": 1, "65535": 1, "32768": 1, "not 0": 1, "not 1": 0, "not 32768": 0, "high 32768": 1, "high 32767": 0,
+            "0": 0, "1": 1, "65535": 1, "32768": 1, "not 0": 1, "not 1": 0, "not 32768": 0, "high 32768": 1,
+            "high 32767": 0,
             "high 65535": 1, "high 0": 0, "5 - 5": 0, "not 5 - 5": 1, "high 5 - 6": 1, "1 half": 0, "not 1 half": 1,
             "high 65535 half": 0, "not 5 & 2": 1, "5 ^ 5": 0, "high 1 ^ 32768": 1,
         }
@@ -490,7 +511,8 @@ class Images(unittest.TestCase):
 
     def test_each_row_is_begun_just_where_pc_is_its_address(self):
         self.follow(self.TEXT)
-        for text in ("", "out 5", "while 0\nend", "if 1\nend", "do r\nto r\nend", "var x\nx = 1", "if 0\nelse\nend", "out in\nout in"):
+        for text in ("", "out 5", "while 0\nend", "if 1\nend", "do r\nto r\nend", "var x\nx = 1", "if 0\nelse\nend",
+            "out in\nout in"):
             self.follow(text)
         self.follow("\n".join(["if 1"] * 60 + ["out 1"] + ["end"] * 60))
         self.follow("\n".join(["if 1"] * 40 + ["else\nend"] * 40))
@@ -542,7 +564,8 @@ class Bounds(unittest.TestCase):
 
     def test_long_reckonings_and_dos(self):
         numbers = self.numbers(120)
-        rows = ["out " + " + ".join(numbers[9 * k:9 * k + 9]) for k in range(13)] + ["do r"] * 46 + ["out 65001 half half", "to r", "end"]
+        rows = ["out " + " + ".join(numbers[9 * k:9 * k + 9]) for k in range(13)]
+        rows += ["do r"] * 46 + ["out 65001 half half", "to r", "end"]
         self.check(rows)
 
     def test_forty_vars_and_all_else(self):

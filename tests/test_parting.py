@@ -44,7 +44,8 @@ class Parting(unittest.TestCase):
         ahead = "lit 3\n"
         cases = (
             ("lit 5", "lit 4"), ("tob", "go 2"), ("go 3", "go 2"), ("push", "put 767"), ("let 1", "let 2"),
-            ("sleep", "let 0"), ("lit 0", "lit 3"), ("put 600", "put 601"), ("put 769", "put 768"), ("put 771", "put 600"),
+            ("sleep", "let 0"), ("lit 0", "lit 3"), ("put 600", "put 601"), ("put 769", "put 768"),
+            ("put 771", "put 600"),
             ("put 773", "put 600"), ("mark", "word 65535"), ("mark", "lit 3"), ("mark", "go 1"), ("get 774", "get 775"),
             ("put 600", "tob"), ("call 2", "go 2"), ("half", "swap"), ("ret", "go 0"), ("back", "ret"),
         )

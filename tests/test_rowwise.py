@@ -303,7 +303,8 @@ class ToRow(Refusing):
 
 class Causes(Refusing):
     def ways(self):
-        return (lambda rowwise: rowwise.into(100), lambda rowwise: rowwise.over(100), lambda rowwise: rowwise.to_row(1, 100))
+        return (lambda rowwise: rowwise.into(100), lambda rowwise: rowwise.over(100),
+            lambda rowwise: rowwise.to_row(1, 100))
 
     def test_a_stop(self):
         for way in self.ways():

@@ -48,7 +48,8 @@ def lists_of(probe):
     """All that a probe tells by lists."""
     return [
         probe.look(0, 774), probe.out(), probe.marks(), probe.wear(), probe.watches(), frames_of(probe), trace(probe),
-        profile(probe), spent(probe), waiting_faults(probe), met_faults(probe), kept_beats(probe), unlike_words(probe, 0),
+        profile(probe), spent(probe), waiting_faults(probe), met_faults(probe), kept_beats(probe),
+        unlike_words(probe, 0),
         unlike_pages(probe, []),
     ]
 
@@ -204,7 +205,8 @@ class Names(unittest.TestCase):
         self.assertEqual(step_over(probe=probe, most=0), ("turns",))
         probe.go(most=2)
         self.assertEqual(step_out(probe=probe, most=9), ("done",))
-        for told in (frames_of, strays_of, trace, faded, profile, spent, idle, peeked, waiting_faults, met_faults, kept_beats):
+        for told in (frames_of, strays_of, trace, faded, profile, spent, idle, peeked, waiting_faults, met_faults,
+            kept_beats):
             self.assertIsNotNone(told(probe=probe))
         for done in (forget_frames, clear_trace, clear_counts, drop_faults):
             self.assertIsNone(done(probe=probe))
@@ -239,16 +241,20 @@ class Names(unittest.TestCase):
             errors.NoText(at=3), errors.Barred(why="far"), errors.Marked(address=5), errors.Unerased(address=6),
         )
         self.assertEqual([vars(error) for error in made], [{"at": 3}, {"why": "far"}, {"address": 5}, {"address": 6}])
-        for name in ("NoImage", "NoWord", "Taken", "TooMany", "NoMark", "NoFrame", "NoRow", "NoTurn", "NoLetter", "Waiting"):
+        for name in ("NoImage", "NoWord", "Taken", "TooMany", "NoMark", "NoFrame", "NoRow", "NoTurn", "NoLetter",
+            "Waiting"):
             kind = getattr(errors, name)
             self.assertEqual((kind.__bases__, str(kind("told")), str(kind())), ((errors.BoardError,), "told", ""))
 
 
 class Logs(unittest.TestCase):
     ROWS = (
-        "go 9", "go 30 2 600 5 5", "go 3", "in", "over 9", "out 9", "poke 600 5", "poke 773 6", "poke 5 5", "set a 5", "set zero yes",
-        "set pc 3", "mark 9 hard", "mark 600 soft", "mark 12 soft", "unmark 12", "clear", "watch 0 512 600 rw", "watch 1 773 773 w",
-        "unwatch 1", "forget", "untrace", "uncount", "erase 15", "write 480 5 6", "cut 0 1 5 6", "load 1029", "keep", "goback 0",
+        "go 9", "go 30 2 600 5 5", "go 3", "in", "over 9", "out 9", "poke 600 5", "poke 773 6", "poke 5 5", "set a 5",
+        "set zero yes",
+        "set pc 3", "mark 9 hard", "mark 600 soft", "mark 12 soft", "unmark 12", "clear", "watch 0 512 600 rw",
+        "watch 1 773 773 w",
+        "unwatch 1", "forget", "untrace", "uncount", "erase 15", "write 480 5 6", "cut 0 1 5 6", "load 1029", "keep",
+        "goback 0",
         "goback 1", "drop", "back 1", "back 5", "forth 1", "forth 4", "what", "unwatch 0",
     )
 
@@ -259,7 +265,8 @@ class Logs(unittest.TestCase):
             desk = Desk(list(image), list(LINE))
             for _ in range(40):
                 beat = int(desk.say("register beat"))
-                fault = chance.choice([f"bit {beat + 3} {chance.randrange(768)} 3", f"read {beat + 2} 5", f"power {beat + 9}"])
+                fault = chance.choice([f"bit {beat + 3} {chance.randrange(768)} 3", f"read {beat + 2} 5",
+                    f"power {beat + 9}"])
                 desk.say(chance.choice([*self.ROWS, f"fault {fault}"]))
                 desk.say(chance.choice(ASKS))
             self.assertIsNone(replayed(list(image), list(LINE), desk.log()))
